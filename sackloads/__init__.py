@@ -1,0 +1,1 @@
+"""Sackloads: loads for a sack."""
