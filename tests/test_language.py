@@ -54,6 +54,10 @@ def bound_names(tree):
             yield node.name
 
 
+def called(call):
+    return call.func.id if isinstance(call.func, ast.Name) else getattr(call.func, "attr", None)
+
+
 class Language(unittest.TestCase):
     def test_only_plain_files(self):
         self.assertIn("__init__.py", [path.name for path in files()])
@@ -148,6 +152,43 @@ class Language(unittest.TestCase):
                 for node in ast.walk(tree):
                     if isinstance(node, ast.Call) and isinstance(node.func, ast.Attribute):
                         self.assertIn(node.func.attr, OWN_METHODS | own, node.lineno)
+
+    def test_walked_at_once(self):
+        walked = {"zip", "enumerate", "reversed", "range", "items", "keys", "values"}
+        takers = {"list", "tuple", "dict", "sorted", "sum", "any", "all", "enumerate", "zip", "min", "max"}
+        for stem, text, tree in parsed():
+            with self.subTest(stem):
+                at_once = []
+                for node in ast.walk(tree):
+                    if isinstance(node, (ast.For, ast.comprehension)):
+                        at_once.append(node.iter)
+                    if isinstance(node, ast.Call) and called(node) in takers:
+                        at_once.extend(node.args[:1])
+                    if isinstance(node, ast.Call) and called(node) == "join":
+                        self.assertIsInstance(node.func.value, ast.Constant, node.lineno)
+                        at_once.extend(node.args)
+                for node in ast.walk(tree):
+                    if isinstance(node, ast.Call) and called(node) in walked:
+                        self.assertIn(node, at_once, node.lineno)
+
+    def test_keywords(self):
+        allowed = {"sorted": {"key", "reverse"}, "min": {"key", "default"}, "max": {"key", "default"},
+                   "sum": {"start"}, "enumerate": {"start"}, "zip": {"strict"}}
+        for stem, text, tree in parsed():
+            with self.subTest(stem):
+                for node in ast.walk(tree):
+                    if isinstance(node, ast.Call):
+                        for keyword in node.keywords:
+                            self.assertIn(keyword.arg, allowed.get(called(node), ()), node.lineno)
+
+    def test_is_stands_beside_none_true_and_false(self):
+        for stem, text, tree in parsed():
+            with self.subTest(stem):
+                for node in ast.walk(tree):
+                    if isinstance(node, ast.Compare) and isinstance(node.ops[0], (ast.Is, ast.IsNot)):
+                        beside = node.comparators[0]
+                        self.assertIsInstance(beside, ast.Constant, node.lineno)
+                        self.assertTrue(beside.value is None or isinstance(beside.value, bool), node.lineno)
 
 
 if __name__ == "__main__":

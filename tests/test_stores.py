@@ -1,16 +1,11 @@
-import copy
 import itertools
 import unittest
 
 from sackloads.errors import NoLoad, NoNumber, NoStore
 from sackloads.stores import bounded, fits, is_load, is_store, leaves, weight, whole_load, worth
+from tests.plain import all_that_fit, small_stores
 from tests.things import BIG, STORE, THIRTEEN, TWELVE, no_counts, no_loads, no_stores
-
-
-class Told(unittest.TestCase):
-    def same(self, found, wanted):
-        self.assertEqual(found, wanted)
-        self.assertEqual(repr(found), repr(wanted))
+from tests.told import Told
 
 
 class IsStore(Told):
@@ -215,41 +210,14 @@ class NothingIsChanged(Told):
                 yield asked, [thing, (0,)]
                 yield asked, [STORE, thing]
 
-    def answer(self, asked, given):
-        try:
-            return asked(*given)
-        except (NoStore, NoLoad, NoNumber) as error:
-            return error.__class__.__name__
-
     def test_what_was_handed_in_is_the_same_and_so_is_the_answer(self):
         for asked, given in self.calls():
-            with self.subTest(asked=asked.__name__, given=given):
-                kept = copy.deepcopy(given)
-                first = self.answer(asked, given)
-                self.same(given, kept)
-                self.same(self.answer(asked, given), first)
-
-
-def some_stores():
-    kinds = [(1, 0, None), (2, 3, 2), (3, 1, 0), (2, 5, None), (4, 4, 1)]
-    for many in range(4):
-        for store in itertools.product(kinds, repeat=many):
-            yield store
-
-
-def all_that_fit(store, room):
-    """The loads that fit, by trying every tuple that could; nothing of the program is asked."""
-    tuples = itertools.product(*[range(room + 2) for _ in store])
-    return [
-        tried for tried in tuples
-        if all(kind[2] is None or times <= kind[2] for kind, times in zip(store, tried))
-        and sum(kind[0] * times for kind, times in zip(store, tried)) <= room
-    ]
+            self.nothing_changes(asked, given)
 
 
 class WhatFollows(Told):
     def test_a_load_and_one_of_what_it_leaves_come_together(self):
-        for store in some_stores():
+        for store in small_stores():
             for load in all_that_fit(store, 4):
                 left = leaves(store, load)
                 for more in all_that_fit(left, 3):
@@ -264,7 +232,7 @@ class WhatFollows(Told):
         self.same(whole_load(leaves(store, whole_load(store))), (0, 0, 0))
 
     def test_loads_that_fit_are_those_of_the_bounded_store_that_fit(self):
-        for store in some_stores():
+        for store in small_stores():
             for room in range(6):
                 close = bounded(store, room)
                 self.assertIs(is_store(close), True)
@@ -276,7 +244,7 @@ class WhatFollows(Told):
                 self.assertEqual(found, all_that_fit(store, room))
 
     def test_each_kind_of_the_bounded_store_fits_alone_and_once_more_does_not(self):
-        for store in some_stores():
+        for store in small_stores():
             for room in range(6):
                 for kind, close in zip(store, bounded(store, room)):
                     self.assertEqual(close[:2], kind[:2])

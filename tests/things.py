@@ -57,3 +57,19 @@ def no_loads():
 def no_counts():
     """Things that are no whole number from 0 on."""
     return odd_things() + ["", "0", (), (0,), [0], STORE]
+
+
+def no_wholes():
+    """Things that are no whole number, not below 0 either."""
+    return [thing for thing in no_counts() if isinstance(thing, bool) or not isinstance(thing, int)]
+
+
+def no_prices():
+    return odd_things() + [
+        0, 1, 5, "", "1/2", "12", (), (1,), (1, 2, 3), (1, 1, 1), [1, 2], [0, 1], {1: 2}, ((1, 2),), ((1, 2), 1),
+        (0, 0), (1, 0), (5, 0), (0, 2), (0, 3), (0, BIG), (2, 2), (2, 4), (6, 4), (3, 3), (15, 35), (BIG, BIG),
+        (2 * 10 ** 28, 10 ** 28), (-1, 2), (1, -2), (-1, -2), (0, -1), (-1, 1), (-BIG, 1), (1, -1), (-3, 3),
+        (True, 1), (True, 2), (1, True), (0, True), (True, True), (False, 1), (False, True), (0, False), (1, False),
+        (None, 1), (1, None), ("1", 2), (1, "2"), ("1", "2"), ([1], 2), (1, [2]), ((1,), (2,)), ({}, 1), (1, {}),
+        ((), 1), (1, ()), STORE, TWELVE,
+    ]
