@@ -1,14 +1,9 @@
 """Single stores: the loads of both halves, where they meet, and the stair that shows that none has so much worth."""
 
-from sackloads.errors import NoNumber, NotSingle
-from sackloads.stores import MOST, WEIGHT, WORTH, is_whole, need_count, need_store, taken_together
+from sackloads.errors import NotSingle
+from sackloads.stores import MOST, WEIGHT, WORTH, is_whole, need_count, need_store, need_whole, taken_together
 
 LOAD = 2
-
-
-def need_whole(thing):
-    if not is_whole(thing):
-        raise NoNumber("this is no whole number")
 
 
 def need_single(store):

@@ -82,10 +82,7 @@ def share_worth(store, room):
     return total
 
 
-def bound(store, room, price):
-    need_store(store)
-    need_count(room)
-    need_price(price)
+def bound_of(store, room, price):
     top = room * price[TOP]
     for kind in store:
         more = kind[WORTH] * price[BOTTOM] - kind[WEIGHT] * price[TOP]
@@ -94,6 +91,13 @@ def bound(store, room, price):
         if more > 0:
             top = top + more * kind[MOST]
     return lowest_terms(top, price[BOTTOM])
+
+
+def bound(store, room, price):
+    need_store(store)
+    need_count(room)
+    need_price(price)
+    return bound_of(store, room, price)
 
 
 def some_price(store, room):

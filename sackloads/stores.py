@@ -41,6 +41,15 @@ def need_count(thing):
         raise NoNumber("this is no whole number from 0 on")
 
 
+def need_whole(thing):
+    if not is_whole(thing):
+        raise NoNumber("this is no whole number")
+
+
+def is_place(thing, store):
+    return is_count(thing) and thing < len(store)
+
+
 def can_take(kind, times):
     return is_count(times) and (kind[MOST] is None or times <= kind[MOST])
 

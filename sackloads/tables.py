@@ -6,11 +6,15 @@ from sackloads.stores import MOST, WEIGHT, WORTH, most_within, need_count, need_
 ASKED_AT_MOST = 200
 
 
+def need_few(number):
+    if number > ASKED_AT_MOST:
+        raise TooMany("a room or a worth greater than 200 is asked for")
+
+
 def need_asked(store, number):
     need_store(store)
     need_count(number)
-    if number > ASKED_AT_MOST:
-        raise TooMany("a room or a worth greater than 200 is asked for")
+    need_few(number)
 
 
 def room_left(kind, times, room):

@@ -2,6 +2,7 @@
 
 import fractions
 import itertools
+import math
 
 
 def small_stores():
@@ -129,3 +130,94 @@ def bound_of(store, room, price):
                 return None
             total += (worth - weight * price) * most
     return total
+
+
+def is_number(thing):
+    return thing.__class__ is int
+
+
+def is_price_of(thing):
+    """Whether it is a price, by the words for a fraction."""
+    if thing.__class__ is not tuple or len(thing) != 2 or not is_number(thing[0]) or not is_number(thing[1]):
+        return False
+    return thing[0] >= 0 and thing[1] >= 1 and math.gcd(thing[0], thing[1]) == 1
+
+
+def keeps_table(paper, store, room):
+    """Whether the numbers of what has the form of a table paper are as told."""
+    for place, (weight, worth, most) in enumerate(store):
+        for size in range(room + 1):
+            times = 0
+            while times * weight <= size and (most is None or times <= most):
+                if paper[place + 1][size] < paper[place][size - times * weight] + times * worth:
+                    return False
+                times += 1
+    return True
+
+
+def is_cut_of(thing, store, room, u):
+    """Whether it is a cut, gone along by the words for it."""
+    if thing.__class__ is not tuple or len(thing) not in (2, 3) or thing[0].__class__ is not str:
+        return False
+    if len(thing) == 2:
+        if thing[0] != "price" or not is_price_of(thing[1]):
+            return False
+        most = bound_of(store, room, fractions.Fraction(*thing[1]))
+        return most is not None and most < u
+    word, place, cuts = thing
+    if word != "kind" or not is_number(place) or not 0 <= place < len(store) or cuts.__class__ is not tuple:
+        return False
+    weight, worth, most = store[place]
+    if most == 0:
+        return False
+    wanted = [times for times in range(room // weight + 1) if most is None or times <= most]
+    if len(cuts) != len(wanted):
+        return False
+    left = store[:place] + ((weight, worth, 0),) + store[place + 1:]
+    return all(is_cut_of(cuts[times], left, room - times * weight, u - times * worth) for times in wanted)
+
+
+def endless_stores():
+    """Of one to three kinds of weights up to 4, like ones and worths of 0 among them."""
+    kinds = [(1, 0, None), (1, 1, None), (2, 3, None), (3, 4, None), (3, 5, None), (4, 6, None), (4, 0, None)]
+    for many in range(1, 4):
+        for store in itertools.product(kinds, repeat=many):
+            yield store
+
+
+def lead_of(store):
+    ranks = [(-fractions.Fraction(kind[1], kind[0]), kind[0], place) for place, kind in enumerate(store)]
+    return min(ranks)[2]
+
+
+def endless_bests(store, rooms):
+    """The best worths of rooms from 0 on, each from those ahead of it by one thing more."""
+    bests = [0]
+    while len(bests) < rooms:
+        room = len(bests)
+        bests.append(max([0] + [bests[room - weight] + worth for weight, worth, most in store if weight <= room]))
+    return bests
+
+
+def start_of(store):
+    """The least room from which on it goes in rounds, looked for twice as far as it can lie."""
+    weight, worth, most = store[lead_of(store)]
+    far = 2 * (weight + weight * max(kind[0] for kind in store))
+    bests = endless_bests(store, far)
+    wrong = [room for room in range(weight, far) if bests[room] != bests[room - weight] + worth]
+    return max(wrong, default=weight - 1) + 1
+
+
+def is_rest_paper_of(thing, store):
+    weight, worth, most = store[lead_of(store)]
+    if thing.__class__ is not tuple or len(thing) != weight or not all(is_number(number) for number in thing):
+        return False
+    if thing[0] != 0 or min(thing) < 0:
+        return False
+    for place, number in enumerate(thing):
+        if thing[(place + 1) % weight] > number + worth:
+            return False
+        for kind in store:
+            if thing[(place + kind[0]) % weight] > number + kind[0] * worth - kind[1] * weight:
+                return False
+    return True
