@@ -1,8 +1,8 @@
 """Papers that show that no load that fits is worth so much: table papers, and cuts."""
 
 from sackloads.shares import BOTTOM, TOP, bound_of, dearest_first, is_price, some_price
-from sackloads.stores import MOST, WEIGHT, WORTH, is_count, is_place, most_within, need_count, need_store, need_whole
-from sackloads.stores import with_most
+from sackloads.stores import WEIGHT, WORTH, is_count, is_place, is_there, most_within, need_count, need_store
+from sackloads.stores import need_whole, with_kind, with_most
 from sackloads.tables import best_rows, best_with, best_worth, need_asked, need_few
 
 
@@ -51,12 +51,8 @@ def need_cut_asked(store, room, u):
     need_few(room)
 
 
-def is_there(kind):
-    return kind[MOST] is None or kind[MOST] > 0
-
-
 def none_of(store, place):
-    return store[:place] + (with_most(store[place], 0),) + store[place + 1:]
+    return with_kind(store, place, with_most(store[place], 0))
 
 
 def is_less(fraction, u):

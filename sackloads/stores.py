@@ -91,6 +91,14 @@ def with_most(kind, most):
     return (kind[WEIGHT], kind[WORTH], most)
 
 
+def with_kind(store, place, kind):
+    return store[:place] + (kind,) + store[place + 1:]
+
+
+def is_there(kind):
+    return kind[MOST] is None or kind[MOST] > 0
+
+
 def most_within(kind, room):
     alone = room // kind[WEIGHT]
     return alone if kind[MOST] is None else min(alone, kind[MOST])

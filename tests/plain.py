@@ -221,3 +221,78 @@ def is_rest_paper_of(thing, store):
             if thing[(place + kind[0]) % weight] > number + kind[0] * worth - kind[1] * weight:
                 return False
     return True
+
+
+def all_that_fill(store, room):
+    return [load for load in some_loads(store, room) if comes_to(store, load, 0) == room]
+
+
+def rooms_filled(store, rooms):
+    """Which of the rooms from 0 on some load of an endless store fills."""
+    full = {0}
+    for room in range(1, rooms):
+        if any(room - kind[0] in full for kind in store):
+            full.add(room)
+    return full
+
+
+def all_stows(store):
+    """Rising as tuples are ordered."""
+    return list(itertools.product(*[range(3) if kind[2] == 1 else (0,) for kind in store]))
+
+
+def in_sack(store, stow, sack):
+    return sum(kind[0] for kind, where in zip(store, stow) if where == sack)
+
+
+def in_both(store, stow):
+    return sum(kind[1] for kind, where in zip(store, stow) if where != 0)
+
+
+def stows_that_fit(store, one, other):
+    return [stow for stow in all_stows(store) if in_sack(store, stow, 1) <= one and in_sack(store, stow, 2) <= other]
+
+
+def best_stows(store, one, other):
+    fitting = stows_that_fit(store, one, other)
+    best = max(in_both(store, stow) for stow in fitting)
+    return best, [stow for stow in fitting if in_both(store, stow) == best]
+
+
+def two_bound_of(store, one, other, price, more):
+    """The bound of two prices that are Python's own fractions."""
+    over = [kind[1] - kind[0] * min(price, more) for kind in store if kind[2] == 1]
+    return one * price + other * more + sum(part for part in over if part > 0)
+
+
+def so_beats(store, by, place):
+    """Whether the one is without end, no heavier and worth no less, whatever the places."""
+    if by == place or store[by][2] is not None:
+        return False
+    return store[by][0] <= store[place][0] and store[by][1] >= store[place][1]
+
+
+def beaten_of(store):
+    pairs = []
+    for place in range(len(store)):
+        by = [other for other in range(len(store)) if so_beats(store, other, place)]
+        by = [other for other in by if not (so_beats(store, place, other) and place < other)]
+        if by:
+            pairs.append((place, min(by)))
+    return pairs
+
+
+def joined_of(store):
+    mosts = {}
+    for weight, worth, most in store:
+        mosts.setdefault((weight, worth), []).append(most)
+    return tuple(pair + (None if None in most else sum(most),) for pair, most in mosts.items())
+
+
+def never_of(store, room, u):
+    places = []
+    for place, (weight, worth, most) in enumerate(store):
+        left = store[:place] + ((weight, worth, None if most is None else most - 1),) + store[place + 1:]
+        if most == 0 or weight > room or worth + math.floor(shares_worth_of(left, room - weight)) < u:
+            places.append(place)
+    return places

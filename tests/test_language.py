@@ -153,6 +153,36 @@ class Language(unittest.TestCase):
                     if isinstance(node, ast.Call) and isinstance(node.func, ast.Attribute):
                         self.assertIn(node.func.attr, OWN_METHODS | own, node.lineno)
 
+    def test_classes(self):
+        methods, kept = set(), set()
+        for stem, text, tree in parsed():
+            with self.subTest(stem):
+                for node in ast.walk(tree):
+                    if isinstance(node, ast.ClassDef):
+                        self.assertIn(node, tree.body)
+                        self.assertLessEqual(len(node.bases), 1)
+                        for part in node.body:
+                            self.assertIsInstance(part, (ast.FunctionDef, ast.Pass), node.lineno)
+                        methods.update(part.name for part in node.body if isinstance(part, ast.FunctionDef))
+                    if isinstance(node, ast.Attribute) and isinstance(node.ctx, ast.Store):
+                        kept.add(node.attr)
+        self.assertEqual(methods & kept, set())
+
+    def test_the_top_of_a_file(self):
+        for stem, text, tree in parsed():
+            with self.subTest(stem):
+                bound = []
+                for node in tree.body[1:]:
+                    self.assertIsInstance(node, (ast.ImportFrom, ast.FunctionDef, ast.ClassDef, ast.Assign), node.lineno)
+                    if isinstance(node, ast.ImportFrom):
+                        bound += [name.name for name in node.names]
+                    elif isinstance(node, ast.Assign):
+                        bound.append(node.targets[0].id)
+                        ast.literal_eval(node.value)
+                    else:
+                        bound.append(node.name)
+                self.assertEqual(len(bound), len(set(bound)))
+
     def test_walked_at_once(self):
         walked = {"zip", "enumerate", "reversed", "range", "items", "keys", "values"}
         takers = {"list", "tuple", "dict", "sorted", "sum", "any", "all", "enumerate", "zip", "min", "max"}
